@@ -77,3 +77,80 @@ def world(hands, rooms=(), passes=(), shared=()):
 def own(row):
     """The frame of a hand's own program at this row."""
     return (-1, -1, row, 0, 0)
+
+
+class Dice:
+    """Numbers that look thrown but are the same each time."""
+
+    def __init__(self, seed):
+        self.at = seed * 7919 + 13
+        # Seeds that are near one another throw alike at first.
+        for time in range(20):
+            self.throw(2)
+
+    def throw(self, many):
+        """A number below many."""
+        self.at = (self.at * 1103515245 + 12345) % 2147483648
+        return (self.at >> 12) % many
+
+    def one_of(self, things):
+        return things[self.throw(len(things))]
+
+
+def thrown_sum(dice, words, bells):
+    """A small sum of these words and bells."""
+    form = dice.throw(7)
+    if form < 2 or not words:
+        return dice.throw(3)
+    if form < 4:
+        return dice.one_of(words)
+    if form == 4 and bells:
+        return ("waits", dice.one_of(bells))
+    if form == 5:
+        return ("not", dice.one_of(words))
+    return (dice.one_of(("plus", "minus", "less", "same", "both")), dice.one_of(words), dice.throw(3))
+
+
+def thrown_world(seed):
+    """A small world by number: two rooms, the deeds of the first of which may do those of the second."""
+    dice = Dice(seed)
+    rooms = []
+    for name in ("a", "b"):
+        manner = dice.one_of(("at once", "when free"))
+        deeds = {"d": thrown_deed(dice, name, WAITS), "e": thrown_deed(dice, name, CALLS[manner])}
+        rooms.append(room(name, deeds, manner, (("t", dice.throw(2)),), (("x", "row"), ("y", "turns"))))
+    hands = [((("m", dice.throw(2)),), thrown_hand(dice)) for hand in range(2 + dice.throw(2))]
+    return (tuple(rooms), (("p", dice.throw(2)), ("q", 1)), (("o", 0),), tuple(hands))
+
+
+WAITS = (("wait", "x", "given"), ("wait", "y", "given"), ("wait", "y", 1))
+CALLS = {"at once": (("call", "x"), ("call", "y")), "when free": (("call", "x"), ("call", "y"), ("all", "y"))}
+
+
+def thrown_deed(dice, name, bell_rows):
+    """A deed of two or three rows, about half of them of these bell rows."""
+    rows = []
+    many = 2 + dice.throw(2)
+    for at in range(many):
+        tree = thrown_sum(dice, ("t", "given"), ("x", "y"))
+        other = ("put", "t", ("not", "t"))
+        if name == "a":
+            other = ("do", dice.one_of((None, "t")), "b", dice.one_of(("d", "e")), tree)
+        plain = (("put", "t", tree), ("unless", tree, many), ("tell", tree), other)
+        rows.append(dice.one_of(bell_rows) if dice.throw(2) == 0 else dice.one_of(plain))
+    return tuple(rows)
+
+
+def thrown_hand(dice):
+    """A hand's program of two or three rows."""
+    rows = []
+    many = 2 + dice.throw(2)
+    for at in range(many):
+        tree = thrown_sum(dice, ("m", "o"), ())
+        passes = (dice.one_of(("p", "q")), dice.one_of(("p", "q")))
+        do = ("do", dice.one_of((None, "m", "o")), dice.one_of(("a", "b")), dice.one_of(("d", "e")), tree)
+        rows.append(dice.one_of((
+            ("put", dice.one_of(("m", "o")), tree), ("unless", tree, many), ("take", passes[0]), ("give", passes[0]),
+            ("pass",) + passes, ("say", tree), do, do, do, do, do, do,
+        )))
+    return tuple(rows)
