@@ -1,7 +1,25 @@
 """Scenes: how all rooms, passes, open things and hands of a world are at one time."""
 
+from calledroom.sums import is_whole
+
 OWN = -1
 NOBODY = -1
+
+# How many tuples stand within one another in a scene, down to the pairs at a bell.
+SCENE_DEEP = 6
+
+
+def is_plain(thing, deep):
+    """Whether it is a whole number, or so many tuples deep at most and made of these alone."""
+    if not isinstance(thing, tuple):
+        return is_whole(thing)
+    if deep < 1:
+        return False
+    # Ended by the first part that isn't: such a thing may be far wider than any scene.
+    for part in thing:
+        if not is_plain(part, deep - 1):
+            return False
+    return True
 
 
 def values_of(things):
