@@ -6,7 +6,7 @@ from calledroom.books import book
 from calledroom.scenes import begun
 from calledroom.steps import walked
 from calledroom.worlds import is_world
-from tests.helper import own, room, thrown_world, world
+from tests.helper import own, thrown_world, world
 from tests.test_steps import DO, one_room
 
 

@@ -54,6 +54,51 @@ def imported_names(tree):
     return [part.name for node in tree.body if isinstance(node, ast.ImportFrom) for part in node.names]
 
 
+def own_values():
+    """All values that objects of the package's classes are given."""
+    stores = [node for name, tree in trees() for node in ast.walk(tree) if isinstance(node, ast.Attribute)]
+    return set([node.attr for node in stores if isinstance(node.ctx, ast.Store)])
+
+
+def own_methods():
+    classes = [node for name, tree in trees() for node in tree.body if isinstance(node, ast.ClassDef)]
+    methods = [row.name for node in classes for row in node.body if isinstance(row, ast.FunctionDef)]
+    return set(methods) - {"__init__"}
+
+
+def is_change(node):
+    """Whether it calls a method that changes what a name is given."""
+    if not isinstance(node, ast.Call) or not isinstance(node.func, ast.Attribute):
+        return False
+    changing = "append clear extend insert pop remove reverse setdefault update sort add discard".split()
+    return isinstance(node.func.value, ast.Name) and node.func.attr in changing
+
+
+def is_given_item(node):
+    """Whether it is an item of a name that is given or taken away."""
+    return isinstance(node, ast.Subscript) and isinstance(node.value, ast.Name) and not isinstance(node.ctx, ast.Load)
+
+
+def makes_a_set(node):
+    called = isinstance(node, ast.Call) and isinstance(node.func, ast.Name) and node.func.id == "set"
+    return called or isinstance(node, (ast.Set, ast.SetComp))
+
+
+def uses_beside_these(function, word):
+    """The rows in which a kept set is used otherwise than it may be."""
+    fit = []
+    for node in ast.walk(function):
+        if is_change(node) and node.func.attr in ("add", "discard"):
+            fit.append(node.func.value)
+        if isinstance(node, ast.Call) and isinstance(node.func, ast.Name) and node.func.id in ("len", "sorted"):
+            fit += node.args
+        if isinstance(node, ast.Compare) and isinstance(node.ops[0], (ast.In, ast.NotIn)):
+            fit += node.comparators
+    names = [node for node in ast.walk(function) if isinstance(node, ast.Name) and node.id == word]
+    given = [node for node in names if isinstance(node.ctx, ast.Store)]
+    return [node.lineno for node in names if node not in fit and node not in given] + given[1:]
+
+
 class Language(unittest.TestCase):
     def test_files(self):
         self.assertIn("__init__.py", [path.name for path in FILES])
@@ -143,11 +188,33 @@ class Language(unittest.TestCase):
                     self.assertEqual((node.args.vararg, node.args.kwarg, node.args.posonlyargs), (None, None, []), name)
 
     def test_methods_and_values(self):
-        given = {"place", "row"}
+        values, methods = own_values(), own_methods()
+        self.assertEqual(sorted(values & methods), [])
+        pythons = [word for kind in (str, int, list, dict, set, bytes, tuple) for word in dir(kind)]
+        self.assertEqual(sorted((values | methods) & set(pythons)), [])
         for name, tree in trees():
             for node in ast.walk(tree):
                 if isinstance(node, ast.Attribute):
-                    self.assertIn(node.attr, METHODS | given, (name, node.lineno))
+                    self.assertIn(node.attr, METHODS | values | methods, (name, node.lineno))
+
+    def test_walks_change_nothing_that_they_walk(self):
+        for name, tree in trees():
+            for node in ast.walk(tree):
+                if isinstance(node, ast.For):
+                    walked = [part.id for part in ast.walk(node.iter) if isinstance(part, ast.Name)]
+                    changes = [part.func.value.id for row in node.body for part in ast.walk(row) if is_change(part)]
+                    changes += [part.value.id for row in node.body for part in ast.walk(row) if is_given_item(part)]
+                    self.assertEqual(sorted(set(walked) & set(changes)), [], (name, node.lineno))
+
+    def test_kept_sets(self):
+        for name, tree in trees():
+            for node in ast.walk(tree):
+                if isinstance(node, ast.FunctionDef):
+                    rows = [row for row in ast.walk(node) if isinstance(row, ast.Assign) and makes_a_set(row.value)]
+                    kept = [row.targets[0].id for row in rows]
+                    self.assertEqual(len(kept), len(set(kept)), (name, node.name))
+                    for word in kept:
+                        self.assertEqual(uses_beside_these(node, word), [], (name, node.name, word))
 
     def test_is_stands_beside_none_and_truths(self):
         for name, tree in trees():
